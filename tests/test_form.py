@@ -170,6 +170,68 @@ class Form(unittest.TestCase):
         for name, node in nodes(ast.Name):
             self.assertTrue(node.id not in dir(builtins) or node.id in OWN_NAMES, f"{name} {node.id}")
 
+    def test_names_of_imports_and_classes(self):
+        """L15: no parameter and no local is called like a class or an import of its file"""
+        for name, tree in TREES.items():
+            outer = {part.name for part in tree.body if isinstance(part, ast.ClassDef)}
+            for part in tree.body:
+                if isinstance(part, ast.ImportFrom):
+                    outer |= {alias.name for alias in part.names}
+            inner = {node.arg for node in ast.walk(tree) if isinstance(node, ast.arg)}
+            for node in ast.walk(tree):
+                if isinstance(node, ast.Name) and isinstance(node.ctx, ast.Store):
+                    inner.add(node.id)
+            self.assertEqual(outer & inner, set(), name)
+
+    def test_names_of_methods_and_values(self):
+        """L18, L26: no name is a method and a value"""
+        parts = [part for name, node in nodes(ast.ClassDef) for part in node.body]
+        methods = {part.name for part in parts if isinstance(part, ast.FunctionDef)}
+        stored = {node.attr for name, node in nodes(ast.Attribute) if isinstance(node.ctx, ast.Store)}
+        self.assertEqual(methods & stored, set())
+        python_names = {called for kind in (str, int, list, dict, set, bytes) for called in dir(kind)}
+        self.assertEqual(stored & python_names, set())
+        self.assertLessEqual(methods & python_names, METHODS | SPECIAL | {"add", "discard"})
+
+    def test_python_names_are_called(self):
+        """L18, L22: they are not kept or handed on, but by isinstance, as a base, and as a key"""
+        free = set()
+        for name, node in nodes(ast.Call):
+            free.add(node.func)
+            free |= {word.value for word in node.keywords if word.arg == "key"}
+            if called_name(node) == "isinstance":
+                free |= set(ast.walk(node.args[1]))
+        for name, node in nodes(ast.ClassDef):
+            free |= set(node.bases)
+        for name, node in nodes(ast.ExceptHandler):
+            free |= set(ast.walk(node.type))
+        for name, node in nodes(ast.Name):
+            self.assertTrue(node.id not in OWN_NAMES or node in free, f"{name} {node.lineno}")
+
+    def test_sets(self):
+        """L24: a set stands beside in, == or !=, or straight within sorted or len"""
+        free = set()
+        for name, node in nodes(ast.Call):
+            if called_name(node) in ("sorted", "len") and not node.keywords:
+                free |= set(ast.walk(node))
+        for name, node in nodes(ast.Compare):
+            free |= {node.left} | set(node.comparators)
+        for name, node in nodes(ast.Call):
+            self.assertTrue(called_name(node) not in ("set", "frozenset") or node in free, f"{name} {node.lineno}")
+
+    def test_what_a_loop_walks_stays(self):
+        """L23: nothing is stored in a walked name, and no method that changes is called on it"""
+        changing = {"append", "clear", "extend", "insert", "pop", "remove", "reverse", "setdefault", "update", "add"}
+        for name, loop in nodes(ast.For):
+            walked = {node.id for node in ast.walk(loop.iter) if isinstance(node, ast.Name)}
+            for node in [inner for part in loop.body for inner in ast.walk(part)]:
+                held = None
+                if isinstance(node, ast.Call) and called_name(node) in changing:
+                    held = getattr(node.func, "value", None)
+                if isinstance(node, ast.Subscript) and isinstance(node.ctx, ast.Store):
+                    held = node.value
+                self.assertNotIn(getattr(held, "id", None), walked - {"self"}, f"{name} {loop.lineno}")
+
     def test_methods(self):
         """L22, L25"""
         for name, node in nodes(ast.Call):
