@@ -1,4 +1,4 @@
-"""What holds of models, ranks and reasons for all rules that have levels and all facts."""
+"""What holds of the whole program for all rules that have levels and all facts."""
 
 import copy
 import itertools
@@ -7,12 +7,16 @@ import unittest
 
 import draws
 import reckoning
-from rulehall.errors import NoLevels, NoReason
+from rulehall.asking import answers, narrowed, needed
+from rulehall.errors import AlreadyThere, HallError, NoLevels, NoPlace, NoReason, NoThing
+from rulehall.halls import Hall
 from rulehall.levels import levels_of
 from rulehall.models import broken, kept, model, ranks
 from rulehall.reading import read
 from rulehall.reasons import accepted, depth, reason_of
 from rulehall.things import are_facts, are_rules
+from rulehall.turning import covers, lean, plain, turned
+from rulehall.unfolding import unfolded
 from rulehall.ways import ways
 from samples import JUNK, deep
 
@@ -27,6 +31,22 @@ SMALL = (
     read("fact p a\nfact s\n"),
     read("rule u A if p A and q A B\nrule p A if u A\n"),
 )
+NAMES = {"p": "q", "q": "p", "a": "b", "b": "a", "yes": "no", "A": "c"}
+
+
+def open_atom(kind):
+    return (kind, ("A", "B", "C")[:draws.COUNTS[kind]])
+
+
+def unfoldings(rules):
+    found = []
+    for number, some in enumerate(rules):
+        for place, literal in enumerate(some[1]):
+            try:
+                found.append((literal[1][0], unfolded(rules, number, place)))
+            except HallError:
+                pass
+    return found
 
 
 class Draws(unittest.TestCase):
@@ -165,6 +185,108 @@ class Reasons(unittest.TestCase):
         self.assertGreater(taken, 10)
 
 
+class ComingAndGoing(unittest.TestCase):
+    """0.2 (d)"""
+
+    def test_put_in_and_taken_out_in_any_order(self):
+        source = random.Random(68)
+        for rules, facts in DRAWN[:80]:
+            hall = Hall(rules, ())
+            there = set(model(rules, ()))
+            for fact in source.sample(facts, len(facts)):
+                came, went = hall.put(fact)
+                there = (there | set(came)) - set(went)
+                self.assertEqual(hall.now(), tuple(sorted(there)))
+            self.assertEqual(hall.given(), facts)
+            self.assertEqual(hall.now(), model(rules, facts))
+            for fact in source.sample(facts, len(facts)):
+                before, (came, went) = set(hall.now()), hall.take(fact)
+                after = set(model(rules, hall.given()))
+                self.assertEqual((set(came), set(went)), (after - before, before - after))
+            self.assertEqual((hall.given(), hall.now()), ((), model(rules, ())))
+
+    def test_without_no_literals_a_put_makes_nothing_go_and_a_take_nothing_come(self):
+        for rules, facts in WITHOUT_NO[:60]:
+            hall = Hall(rules, facts)
+            for fact in facts:
+                came, went = hall.take(fact)
+                self.assertEqual(came, ())
+                self.assertEqual(hall.put(fact), (went, ()))
+
+
+class Questions(unittest.TestCase):
+    """0.2 (e)"""
+
+    def test_answers_of_the_narrowed(self):
+        told = 0
+        for rules, facts in DRAWN + WITHOUT_NO:
+            whole = model(rules, facts)
+            for kind in draws.KINDS:
+                some_rules, some_facts = narrowed(rules, facts, kind)
+                wanted = tuple(fact for fact in whole if fact[0] == kind)
+                self.assertEqual(answers(rules, facts, open_atom(kind)), wanted)
+                self.assertEqual(answers(some_rules, some_facts, open_atom(kind)), wanted)
+                self.assertEqual(tuple(fact for fact in model(some_rules, some_facts) if fact[0] == kind), wanted)
+                told += len(wanted) > 0 and len(some_rules) + len(some_facts) < len(rules) + len(facts)
+        self.assertGreater(told, 300)
+
+    def test_what_the_question_does_not_hang_on(self):
+        source = random.Random(69)
+        for rules, facts in DRAWN[:100]:
+            for kind in draws.KINDS:
+                kinds = needed(rules, kind)
+                others = [one for one in draws.KINDS if one not in kinds]
+                more = tuple(draws.drawn_rule(source, one, draws.KINDS, ()) for one in others)
+                more = tuple(one for one in rules if one[0][0] in kinds) + more
+                given = {fact for fact in facts if fact[0] in kinds}
+                if others:
+                    given |= set(draws.drawn_facts(source, others, 6))
+                wanted = answers(rules, facts, open_atom(kind))
+                self.assertEqual(answers(more, tuple(sorted(given)), open_atom(kind)), wanted)
+
+
+class OtherRules(unittest.TestCase):
+    """0.2 (f), of unfolding, of covered rules, and of other names"""
+
+    def test_unfolded_rules(self):
+        told = 0
+        for rules, facts in DRAWN[:120] + WITHOUT_NO[:60]:
+            for kind, other in unfoldings(rules):
+                some = tuple(fact for fact in facts if fact[0] != kind)
+                self.assertEqual(model(other, some), model(rules, some))
+                told += 1
+        self.assertGreater(told, 200)
+
+    def test_lean_rules(self):
+        for rules, facts in DRAWN + WITHOUT_NO:
+            found = lean(rules + rules[::-1])
+            self.assertEqual(found, lean(rules))
+            self.assertEqual(model(found, facts), model(rules, facts))
+
+    def test_plain_rules(self):
+        for rules, facts in DRAWN:
+            other = tuple(plain(one) for one in rules)
+            self.assertEqual(model(other, facts), model(rules, facts))
+            self.assertEqual(ranks(other, facts), ranks(rules, facts))
+            self.assertEqual(lean(other), tuple(plain(one) for one in lean(rules)))
+
+    def test_turned_rules(self):
+        source = random.Random(70)
+        pool = list(draws.WORDS) + draws.KINDS + ["yes", "no", "other"]
+        for rules, facts in DRAWN:
+            names = dict(zip(pool, source.sample(pool, len(pool))))
+            other_rules = tuple(turned(one, names) for one in rules)
+            other_facts = tuple(sorted(turned((fact, ()), names)[0] for fact in facts))
+            wanted = tuple(sorted(turned((fact, ()), names)[0] for fact in model(rules, facts)))
+            self.assertEqual(model(other_rules, other_facts), wanted)
+
+    def test_a_rule_and_its_plain_one_cover_one_another(self):
+        for rules, facts in DRAWN:
+            for one in rules:
+                self.assertIs(covers(plain(one), one), True)
+                self.assertIs(covers(one, plain(one)), True)
+
+
 class OrderOfRules(unittest.TestCase):
     """0.2 (f), of the order of rules"""
 
@@ -173,6 +295,10 @@ class OrderOfRules(unittest.TestCase):
         self.assertEqual(ranks(rules, facts), ranks(other, facts))
         self.assertEqual(levels_of(rules), levels_of(other))
         self.assertEqual(kept(rules, facts), kept(other, facts))
+        self.assertEqual(Hall(rules, facts).now(), Hall(other, facts).now())
+        for kind in ("p", "q"):
+            self.assertEqual(needed(rules, kind), needed(other, kind))
+            self.assertEqual(answers(rules, facts, open_atom(kind)), answers(other, facts, open_atom(kind)))
 
     def test_other_orders(self):
         source = random.Random(66)
@@ -209,15 +335,27 @@ class NothingIsChangedOrKept(unittest.TestCase):
         for fact in model(rules, facts):
             reason = reason_of(rules, facts, fact)
             found += [reason, accepted(rules, facts, reason), depth(reason)]
+        for kind in draws.KINDS:
+            found += [needed(rules, kind), narrowed(rules, facts, kind), answers(rules, facts, open_atom(kind))]
+        found += [plain(one) for one in rules] + [turned(one, NAMES) for one in rules] + [lean(rules)]
+        found += [covers(one, other) for one, other in itertools.product(rules, repeat=2)] + unfoldings(rules)
+        return found + self.hall_calls(Hall(rules, facts), facts)
+
+    def hall_calls(self, hall, facts):
+        found = [hall.given(), hall.now()]
+        for fact in facts:
+            found += [hall.take(fact), hall.given(), hall.now()]
+        for fact in facts[::-1]:
+            found += [hall.put(fact), hall.given(), hall.now()]
         return found
 
     def test_what_is_handed_in_stays(self):
         for rules, facts in DRAWN[:60]:
-            before = copy.deepcopy((rules, facts))
-            shown = repr((rules, facts))
+            before = copy.deepcopy((rules, facts, NAMES))
+            shown = repr((rules, facts, NAMES))
             self.calls(rules, facts)
-            self.assertEqual((rules, facts), before)
-            self.assertEqual(repr((rules, facts)), shown)
+            self.assertEqual((rules, facts, NAMES), before)
+            self.assertEqual(repr((rules, facts, NAMES)), shown)
 
     def test_each_asking_stands_alone(self):
         first = [self.calls(rules, facts) for rules, facts in DRAWN[:40]]
@@ -229,7 +367,31 @@ class NothingIsChangedOrKept(unittest.TestCase):
         before = self.calls(rules, facts)
         self.assertRaises(NoLevels, model, read("rule p if not p\n")[0], facts)
         self.assertRaises(NoReason, reason_of, rules, facts, ("nowhere", ()))
+        self.assertRaises(NoPlace, unfolded, rules, len(rules), 0)
+        self.assertRaises(NoThing, Hall(rules, facts).put, [])
+        self.assertRaises(AlreadyThere, Hall(rules, facts).put, facts[0])
         self.assertEqual(self.calls(rules, facts), before)
+
+    def test_names_are_not_kept(self):
+        names = {"p": "q", "a": "b"}
+        some = read("rule p a if q A\n")[0][0]
+        self.assertEqual(turned(some, names), read("rule q b if q A\n")[0][0])
+        names["p"] = "r"
+        self.assertEqual(turned(some, names), read("rule r b if q A\n")[0][0])
+        self.assertEqual(turned(some, {}), some)
+
+    def test_things_that_are_put_into_a_hall_stay(self):
+        hall = Hall(*read("rule p A if q A\nfact q a\n"))
+        things = list(JUNK) + [["q", ["b"]], ("q", ["b"]), deep(list), [("q", ("b",))]]
+        before = copy.deepcopy(things)
+        for thing in things:
+            for asked in (hall.put, hall.take):
+                try:
+                    asked(thing)
+                except HallError:
+                    pass
+        self.assertEqual(things, before)
+        self.assertEqual(hall.given(), (("q", ("a",)),))
 
     def test_things_that_are_no_reasons_stay(self):
         rules, facts = read("rule p A if q A\nfact q a\n")

@@ -3,11 +3,14 @@ import unittest
 
 import draws
 import reckoning
+from rulehall.asking import answers, narrowed, needed
 from rulehall.errors import HallError, NoLevels
+from rulehall.halls import Hall
 from rulehall.levels import levels_of
 from rulehall.models import broken, kept, model, ranks
 from rulehall.reasons import accepted, reason_of
-from samples import JUNK, no, rule, yes
+from rulehall.unfolding import unfolded
+from samples import JUNK, facts_of, no, rule, yes
 
 
 def chain(kinds, mark):
@@ -227,8 +230,10 @@ class Refused(Case):
     """2.2: with rules that have no levels, whatever else is handed in."""
 
     def refusing(self, call, rules):
-        with self.assertRaises(NoLevels) as taken:
-            call()
+        for wider in (NoLevels, HallError, ValueError):
+            with self.assertRaises(wider) as taken:
+                call()
+            self.assertIs(type(taken.exception), NoLevels)
         self.assertTrue(reckoning.is_ring(rules, taken.exception.ring))
 
     def test_models(self):
@@ -258,6 +263,46 @@ class Refused(Case):
             for fact in (("x", ()), ("y", ()), ("p", ()), ("nowhere", ("nobody",))):
                 self.refusing(lambda: reason_of(rules, (("x", ()),), fact), rules)
 
+    def test_questions(self):
+        facts = (("x", ()), ("y", ("a",)))
+        for rules in WITHOUT_LEVELS + tuple(BESIDE + rules for rules in WITHOUT_LEVELS):
+            # Of the ring, beside it, of given facts, and of none.
+            for kind in ("p", "a", "e", "x", "y", "nowhere"):
+                self.refusing(lambda: needed(rules, kind), rules)
+                self.refusing(lambda: narrowed(rules, facts, kind), rules)
+                for terms in ((), ("A",), ("a",), ("A", "b", "A")):
+                    self.refusing(lambda: answers(rules, facts, (kind, terms)), rules)
+                    self.refusing(lambda: answers(rules, (), (kind, terms)), rules)
+
+    def test_halls(self):
+        for rules in WITHOUT_LEVELS + tuple(BESIDE + rules for rules in WITHOUT_LEVELS):
+            for facts in ((), (("p", ()),), (("x", ()), ("y", ("a",))), facts_of(64), facts_of(70)):
+                self.refusing(lambda: Hall(rules, facts), rules)
+
+    def test_unfolded_at_places_and_at_none(self):
+        for rules in WITHOUT_LEVELS + tuple(BESIDE + rules for rules in WITHOUT_LEVELS):
+            for number in (0, 1, len(rules) - 1, len(rules), -1, 100, -100):
+                for place in (0, 1, 2, -1, 4, 100, -100):
+                    self.refusing(lambda: unfolded(rules, number, place), rules)
+
+    def test_unfolded_where_there_is_no_room(self):
+        wide = (rule("a", (), yes("b"), yes("b"), yes("b"), yes("c")), rule("b", (), yes("c"), yes("d")))
+        many = (rule("a", (), yes("b")),) + (rule("b", ()),) * 15
+        for rules in WITHOUT_LEVELS:
+            for more in (wide, many, wide + many):
+                for place in (0, 1, -1, 4):
+                    self.refusing(lambda: unfolded(more + rules, 0, place), more + rules)
+                    self.refusing(lambda: unfolded(rules + more, len(rules), place), rules + more)
+
+    def test_rings_of_yes_literals_are_no_ground(self):
+        for kinds in ("p", "pq", "pqr", "pqrs"):
+            rules = ring(kinds, ("yes",) * len(kinds)) + BESIDE
+            self.assertEqual(needed(rules, "p"), tuple(kinds))
+            self.assertEqual(answers(rules, (("p", ()),), ("p", ())), (("p", ()),))
+            self.assertEqual(narrowed(rules, (), "p"), (rules[:len(kinds)], ()))
+            self.assertEqual(Hall(rules, ()).put(("p", ())), (tuple((kind, ()) for kind in kinds), ()))
+            self.assertEqual(len(unfolded(rules, 0, 0)), len(rules))
+
     def test_drawn_rules(self):
         source = random.Random(25)
         without = 0
@@ -272,6 +317,14 @@ class Refused(Case):
                 self.refusing(lambda: asked(rules, facts), rules)
             self.refusing(lambda: accepted(rules, facts, None), rules)
             self.refusing(lambda: reason_of(rules, facts, ("x", ())), rules)
+            self.refusing(lambda: Hall(rules, facts), rules)
+            for kind in draws.KINDS:
+                self.refusing(lambda: needed(rules, kind), rules)
+                self.refusing(lambda: narrowed(rules, facts, kind), rules)
+                self.refusing(lambda: answers(rules, facts, (kind, ("A",) * draws.COUNTS[kind])), rules)
+            for number in range(-1, len(rules) + 1):
+                for place in range(-1, 5):
+                    self.refusing(lambda: unfolded(rules, number, place), rules)
         self.assertGreater(without, 50)
 
 
